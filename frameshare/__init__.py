@@ -1,0 +1,1 @@
+"""Frameshare: rooms of a frame shared by things that live apart."""
