@@ -20,15 +20,21 @@ def forty_deep():
         lambda inner: (1, inner),
         lambda inner: [(), inner],
         lambda inner: ("round", inner),
-        lambda inner: ((), (inner,)),
-        lambda inner: ("either", (inner,), ()),
     ]
-    return [nested(make, 39, inmost) for make in makers for inmost in ((), [], {}, 1, None)]
+    deeper_makers = [
+        lambda inner: ((), (inner,)),
+        lambda inner: ("round", (inner,)),
+        lambda inner: ("either", (inner,), ()),
+        lambda inner: ("either", (), (inner,)),
+        lambda inner: [{"a": inner}],
+    ]
+    steps = [(make, 39) for make in makers] + [(make, 19) for make in deeper_makers]
+    return [nested(make, deep, inmost) for make, deep in steps for inmost in ((), [], {}, 1, None)]
 
 
 def other_values():
     """Values of other kinds."""
     return [
-        0, 1, -1, 7, 10 ** 12, True, False, None, "", "a", "thing", "row", "(1, 1)", {}, {"a": 1},
+        0, 1, -1, 7, 10 ** 12, True, False, None, "", "a", "thing", "rows", "(1, 1)", {}, {"a": 1},
         {0: 1, 1: 1}, {1: 1, 2: 2}, {None: None, True: ()}, {(1, 1): (1, 1)}, {"things": (), "items": ()},
     ] + forty_deep()
