@@ -86,6 +86,22 @@ def made_program(seed, calls=False):
     return things, Maker(dice, many, calls).items(1 + dice.below(7), 2)
 
 
+def made_frame(seed, most_things, most_size, most_border):
+    """Things and pairs of them: all, some or none."""
+    dice = Dice(seed)
+    things = tuple((1 + dice.below(most_size), 1 + dice.below(most_border)) for t in range(dice.below(most_things + 1)))
+    share = dice.below(5)
+    return things, [pair for pair in all_pairs(len(things)) if dice.below(4) < share]
+
+
+def made_frames(count, most_things, most_size=6, most_border=4):
+    return [made_frame(seed, most_things, most_size, most_border) for seed in range(1, count + 1)]
+
+
+def all_pairs(many):
+    return [(t, u) for t in range(many) for u in range(t + 1, many)]
+
+
 def renumbered(items, numbers):
     """The items with other numbers for their things."""
     told = []
@@ -127,6 +143,19 @@ def count_runs(items, most=2):
         elif item[0] == "round":
             many *= sum(count_runs(item[1], most) ** times for times in range(most + 1))
     return many
+
+
+def with_rows_for_calls(program):
+    """The program with a row, with its reads and write, for each call."""
+    return program[0], tuple(plain_item(item) for item in program[1])
+
+
+def plain_item(item):
+    if item[0] == "call":
+        return ("row", item[2], item[3])
+    if item[0] in ("either", "round"):
+        return (item[0],) + tuple(tuple(plain_item(inner) for inner in side) for side in item[1:])
+    return item
 
 
 WRITE_A, WRITE_B, WRITE_C = ("row", (), 0), ("row", (), 1), ("row", (), 2)
