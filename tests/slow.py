@@ -81,3 +81,26 @@ def least_by_orders(things, pairs):
     """The least height over all orders, put one by one."""
     orders = itertools.permutations(range(len(things)))
     return min(top(things, slow_placed(things, pairs, list(order))) for order in orders)
+
+
+def slow_shows(things, pairs, limit, tree, told=()):
+    """Whether the tree shows that no placing is as low as the limit, with these told to lie below one another."""
+    if type(tree) is not tuple or not tree or type(tree[0]) is not str:
+        return False
+    if tree[0] == "pair" and len(tree) == 5:
+        word, t, u, one, other = tree
+        if type(t) is not int or type(u) is not int or (t, u) not in pairs:
+            return False
+        below, above = (*told, (t, u)), (*told, (u, t))
+        return slow_shows(things, pairs, limit, one, below) and slow_shows(things, pairs, limit, other, above)
+    if tree[0] not in ("stack", "ring") or len(tree) != 2 or type(tree[1]) is not tuple:
+        return False
+    word, order = tree
+    if any(type(t) is not int or t not in range(len(things)) for t in order):
+        return False
+    if any(step not in told for step in zip(order, order[1:])):
+        return False
+    if word == "ring":
+        return len(order) > 1 and order[0] == order[-1]
+    places = slow_stack(things, order)
+    return len(set(order)) == len(order) and top([things[t] for t in order], places) > limit

@@ -257,7 +257,8 @@ class WrongShapeTest(IsProgramTest):
                 self.wrong(("row", thing, None))
 
     def test_things_that_are_none(self):
-        for thing in ((0, 1), (1, 0), (-1, 1), (1, -4), (True, 1), (1, True), ("1", 1), (1, None), (1,), (1, 1, 1), [1, 1]):
+        for thing in ((0, 1), (1, 0), (-1, 1), (1, -4), (True, 1), (1, True), ("1", 1), (1, None), (1,), (1, 1, 1),
+                      [1, 1]):
             self.assertIs(is_program(((thing,), ())), False, thing)
             self.assertIs(is_program((((1, 1), thing), (WRITE_A,))), False, thing)
             self.assertIs(is_program(((thing, (1, 1)), (QUIET,))), False, thing)

@@ -15,7 +15,9 @@ from tests.samples import (
 from tests.slow import slow_placed, slow_roofs
 
 WORDS = ("told", "great", "long", "early")
-OTHER_WORDS = ("Great", "", " told", "tol", "told ", "TOLD", "greatest", "longer", "Early", "late", "0", "-", "told great")
+OTHER_WORDS = (
+    "Great", "", " told", "tol", "told ", "TOLD", "greatest", "longer", "Early", "late", "0", "-", "told great",
+)
 # Busy are: behind row 0 the thing 3, behind 1 both 2 and 3, behind 2 the thing 2, behind 3 the thing 0; 1 and 4 never.
 MIXED = (
     ((2, 1), (5, 2), (9, 4), (5, 8), (1, 1)),
@@ -132,9 +134,11 @@ class PlacedTest(unittest.TestCase):
 
     def test_twenty_great_ones(self):
         things = tuple((10 ** 9 + t, 10 ** 9 - 7 * t) for t in range(20))
-        places = placed(things, all_pairs(20), list(range(20)))
+        order = list(range(20))
+        places = placed(things, all_pairs(20), order)
         self.assertIs(is_placing(things, all_pairs(20), places), True)
-        self.assertTrue(all(place <= roof for place, roof in zip(places, roofs(things, all_pairs(20), list(range(20))))))
+        for place, roof in zip(places, roofs(things, all_pairs(20), order)):
+            self.assertLessEqual(place, roof)
 
     def test_place_by_place(self):
         for things, pairs in made_frames(150, 5, 7, 5):
