@@ -28,6 +28,10 @@ BARRED_NODES = (
     ast.Global, ast.AsyncFunctionDef, ast.AsyncFor, ast.AsyncWith, ast.Await, ast.Import, ast.Div, ast.MatMult,
     ast.AnnAssign,
 )
+BARRED_ATTRIBUTES = set(
+    "items keys values pop update append clear extend insert remove reverse setdefault sort args encode decode hex "
+    "fromhex format format_map mro register elements open input".split()
+)
 TOP_NODES = (ast.ImportFrom, ast.FunctionDef, ast.ClassDef, ast.Assign)
 
 
@@ -41,6 +45,13 @@ def nodes_of(kinds):
 
 def is_docstring(node):
     return isinstance(node, ast.Expr) and isinstance(node.value, ast.Constant) and isinstance(node.value.value, str)
+
+
+def is_set(node):
+    """Whether a set is made here."""
+    if isinstance(node, ast.Call):
+        return isinstance(node.func, ast.Name) and node.func.id == "set"
+    return isinstance(node, (ast.Set, ast.SetComp))
 
 
 def bound_names(node):
@@ -147,6 +158,27 @@ class LanguageTest(unittest.TestCase):
             self.assertEqual(node.args.posonlyargs, [], (path, node.name))
             for decorator in node.decorator_list:
                 self.assertIn(ast.unparse(decorator), ("property", "staticmethod", "classmethod"), path)
+
+    def test_no_name_is_a_method_and_an_attribute(self):
+        methods = {part.name for path, node in nodes_of(ast.ClassDef) for part in node.body
+                   if isinstance(part, ast.FunctionDef)}
+        kept = {node.attr for path, node in nodes_of(ast.Attribute) if isinstance(node.ctx, ast.Store)}
+        self.assertEqual(methods & kept, set())
+        self.assertEqual(kept & BARRED_ATTRIBUTES, set())
+        for path, node in nodes_of(ast.Attribute):
+            self.assertIn(node.attr, kept | methods | METHODS, (path, node.lineno))
+
+    def test_sets_stand_where_told(self):
+        for path, tree in trees():
+            above = {id(inner): outer for outer in ast.walk(tree) for inner in ast.iter_child_nodes(outer)}
+            for node in ast.walk(tree):
+                if is_set(node):
+                    outer = above[id(node)]
+                    while isinstance(outer, ast.BinOp):
+                        outer = above[id(outer)]
+                    told = isinstance(outer, (ast.Compare, ast.Assign)) or (
+                        isinstance(outer, ast.Call) and ast.unparse(outer.func) in ("sorted", "len"))
+                    self.assertTrue(told, (path, node.lineno))
 
     def test_is_stands_beside_none_true_and_false_alone(self):
         for path, node in nodes_of(ast.Compare):
