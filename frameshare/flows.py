@@ -6,7 +6,12 @@ from frameshare.shapes import has_shape
 
 def is_program(thing):
     """Whether it's a right program."""
-    return has_shape(thing) and finds_written(thing) and given_by(thing[1], []) is not None
+    return is_function(thing, 0)
+
+
+def is_function(thing, ahead):
+    """Whether it's a right program whose items may call so many functions ahead of it, too."""
+    return has_shape(thing, ahead) and finds_written(thing) and given_by(thing[1], []) is not None
 
 
 def finds_written(program):

@@ -4,7 +4,7 @@ from frameshare.flows import given_behind, rows_of
 from frameshare.items import needs_of, write_of
 from frameshare.lives import busy_behind, clashes
 from frameshare.placings import first_over
-from frameshare.steps import choices_to, steps_of
+from frameshare.steps import choices_to, stands_of, steps_of
 from frameshare.things import is_number_below, lie_over
 from frameshare.ways import way_of
 
@@ -56,7 +56,7 @@ def runs_to_try(program, t, u):
     it's handed out; else the choices that lead on from there to where it's needed, ahead of its next write, are wrong.
     """
     steps = steps_of(program)
-    stands = [at for at, step in enumerate(steps) if step[0] is not None]
+    stands = stands_of(steps)
     here = stands[row_with_both(program, t, u)]
     ahead = choices_to(steps, 0, [here], [])
     told = [ahead]

@@ -40,6 +40,11 @@ def steps_of(program):
     return steps
 
 
+def stands_of(steps):
+    """The list, for each row, of the step at which it's done."""
+    return [at for at, step in enumerate(steps) if step[0] is not None]
+
+
 def choices_to(steps, begin, goals, walls):
     """The choices that lead from the begin to one of the goals, through no wall; None where none do."""
     found = {begin: []}

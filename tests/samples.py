@@ -23,7 +23,7 @@ class Dice:
 
 
 class Maker:
-    """Makes a right program of so many things."""
+    """Makes a right program of so many things, that calls so many functions ahead of it."""
 
     def __init__(self, dice, many, calls):
         self.dice, self.many, self.calls = dice, many, calls
@@ -49,7 +49,7 @@ class Maker:
         write = self.dice.below(self.many) if self.many and self.dice.below(4) else None
         self.written |= {write} - {None}
         if self.calls and self.dice.below(2):
-            return ("call", self.dice.below(3), reads, write)
+            return ("call", self.dice.below(self.calls), reads, write)
         return ("row", reads, write)
 
     def give(self, t):
@@ -83,7 +83,22 @@ def made_program(seed, calls=False):
     dice = Dice(seed)
     many = dice.below(5)
     things = tuple((1 + dice.below(9), 1 + dice.below(4)) for t in range(many))
-    return things, Maker(dice, many, calls).items(1 + dice.below(7), 2)
+    return things, Maker(dice, many, 3 if calls else 0).items(1 + dice.below(7), 2)
+
+
+def made_house(seed, most_functions=4, most_rows=5):
+    """A house of some functions, each of which calls those ahead of it."""
+    dice = Dice(seed)
+    told = []
+    for ahead in range(1 + dice.below(most_functions)):
+        many = dice.below(5)
+        things = tuple((1 + dice.below(9), 1 + dice.below(4)) for t in range(many))
+        told.append((things, Maker(dice, many, ahead).items(dice.below(most_rows + 1), 2)))
+    return tuple(told)
+
+
+def made_houses(count, most_functions=4, most_rows=5):
+    return [made_house(seed, most_functions, most_rows) for seed in range(1, count + 1)]
 
 
 def made_frame(seed, most_things, most_size, most_border):

@@ -39,6 +39,17 @@ def trees():
     return [(path, ast.parse(path.read_text(encoding="utf-8"))) for path in FILES if path.suffix == ".py"]
 
 
+def is_plain(node, functions):
+    """Whether it's a plain value, or a list, tuple or dict of these and of functions that are defined above."""
+    if isinstance(node, ast.Name):
+        return node.id in functions
+    if isinstance(node, ast.Dict):
+        return all(is_plain(part, functions) for part in node.keys + node.values)
+    if isinstance(node, (ast.List, ast.Tuple)):
+        return all(is_plain(part, functions) for part in node.elts)
+    return isinstance(node, ast.Constant) and type(node.value) in (int, str, bytes, bool, type(None))
+
+
 def nodes_of(kinds):
     return [(path, node) for path, tree in trees() for node in ast.walk(tree) if isinstance(node, kinds)]
 
@@ -95,11 +106,30 @@ class LanguageTest(unittest.TestCase):
         for path, tree in trees():
             names = top_names(tree)
             self.assertEqual(len(names), len(set(names)), path)
+            functions = set()
             for at, node in enumerate(tree.body):
                 if not (at == 0 and is_docstring(node)):
                     self.assertIsInstance(node, TOP_NODES, (path, node.lineno))
+                if isinstance(node, ast.FunctionDef):
+                    functions.add(node.name)
                 if isinstance(node, ast.Assign):
-                    ast.literal_eval(node.value)
+                    self.assertTrue(is_plain(node.value, functions), (path, node.lineno))
+
+    def test_lists_and_dicts_at_module_level_hold_none_and_are_only_read(self):
+        for path, tree in trees():
+            for node in tree.body:
+                if isinstance(node, ast.Assign) and isinstance(node.value, (ast.Dict, ast.List)):
+                    inner = [part for part in ast.walk(node.value) if isinstance(part, (ast.Dict, ast.List))]
+                    self.assertEqual(inner, [node.value], path)
+                    above = {id(part): outer for outer in ast.walk(tree) for part in ast.iter_child_nodes(outer)}
+                    for part in ast.walk(tree):
+                        if isinstance(part, ast.Name) and part.id == node.targets[0].id and part not in node.targets:
+                            self.assertIsInstance(above[id(part)], (ast.Compare, ast.Subscript), (path, part.lineno))
+                            self.assertNotIsInstance(getattr(above[id(part)], "ctx", None), (ast.Store, ast.Del), path)
+
+    def test_what_is_called_has_a_plain_name(self):
+        for path, node in nodes_of(ast.Call):
+            self.assertIsInstance(node.func, (ast.Name, ast.Attribute), (path, node.lineno))
 
     def test_imports(self):
         homes = {f"frameshare.{path.stem}": tree for path, tree in trees()}
