@@ -17,7 +17,7 @@ class Route:
         # The number of the row that is done at each step at which one is.
         self.numbers = {at: row for row, at in enumerate(stands_of(self.steps))}
         self.handed = given_behind(function)
-        self.spots = list(frame[2])
+        self.spots = frame[2]
         self.rooms = {row: place for row, place in frame[3]}
 
 

@@ -159,6 +159,21 @@ class DeepTest(unittest.TestCase):
                   ("wrong", 15, 0, 1))
         self.deep(house, [frame([20, 22, 0]), frame([30, 40], (4, 0)), frame([0, 4], (4, 10))], [], ("right", 15))
 
+    def test_all_spoiled_by_one_write(self):
+        # The last write, on 20 rooms from 0 on, lies over all that is handed out: two by each of three functions.
+        gives = (WRITE_A, WRITE_B, GIVE_B, GIVE_A)
+        inmost = (((2, 1), (2, 1), (20, 1)), gives + (("row", (), 2),))
+        house = (inmost, (TWO, gives + (CALL,)), (TWO, gives + (("call", 1, (), None),)))
+        middle, outer = frame([4, 8], (4, 0)), frame([12, 16], (4, 0))
+        aside, aside_too = frame([40, 50], (4, 0)), frame([60, 70], (4, 0))
+        self.deep(house, [frame([0, 2, 0]), middle, outer], [], ("wrong", 15, 2, 0))
+        self.deep(house, [frame([30, 2, 0]), middle, outer], [], ("wrong", 15, 2, 1))
+        self.deep(house, [frame([0, 2, 0]), aside, outer], [], ("wrong", 15, 2, 0))
+        self.deep(house, [frame([30, 32, 0]), middle, outer], [], ("wrong", 15, 1, 0))
+        self.deep(house, [frame([30, 32, 0]), aside, outer], [], ("wrong", 15, 0, 0))
+        self.deep(house, [frame([30, 32, 0]), middle, aside_too], [], ("wrong", 15, 1, 0))
+        self.deep(house, [frame([30, 32, 0]), aside, aside_too], [], ("right", 15))
+
     def test_what_is_handed_out_is_looked_at_behind_each_row(self):
         # The called one's second write spoils its first thing, which is found as that is read, behind one row more.
         called = (TWO, (WRITE_A, WRITE_B, READ_A))
