@@ -7,7 +7,7 @@ from frameshare.least import MOST_THINGS, least
 from frameshare.lives import busy_behind, clashes
 from frameshare.rules import WORDS, placed_by
 from frameshare.runner import wrong_run
-from frameshare.texts import are_numbers, is_plain_number, read_program
+from frameshare.texts import are_numbers, is_written_number, read_program
 from frameshare.things import height
 from frameshare.ways import way_of
 
@@ -29,7 +29,7 @@ def asks_nothing_more(program, words):
 
 def asks_of_row(program, words):
     """Whether one row that is there stands behind the ask's first word."""
-    return len(words) == 2 and are_numbers(words[1:]) and int(words[1]) < len(rows_of(program))
+    return len(words) == 2 and is_written_number(words[1]) and int(words[1]) < len(rows_of(program))
 
 
 def asks_by_rule(program, words):
@@ -40,8 +40,7 @@ def asks_by_rule(program, words):
 def asks_of_places(program, words):
     """Whether a place for each thing, that its border divides, stands behind the ask's first word."""
     things = program[0]
-    # Told places may have more figures than a program's text allows, and may be handed in again.
-    if len(words) != len(things) + 1 or not all([is_plain_number(word) for word in words[1:]]):
+    if len(words) != len(things) + 1 or not are_numbers(words[1:]):
         return False
     return all([place % border == 0 for (size, border), place in zip(things, numbers_of(words[1:]))])
 

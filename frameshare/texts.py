@@ -35,16 +35,16 @@ def program_text(program):
     return "\n".join([*[f"thing {size} {border}" for size, border in things], *texts_of_items(items)])
 
 
-def is_plain_number(word):
-    """Whether it's a number in plain figures, without a nought ahead but in 0 itself."""
-    if len(word) == 0 or not all([sign in FIGURES for sign in word]):
+def is_written_number(word):
+    """Whether it's a number as texts have it: at most ten plain figures, no nought ahead but in 0 itself."""
+    if not 1 <= len(word) <= MOST_FIGURES or not all([sign in FIGURES for sign in word]):
         return False
     return word[0] != "0" or len(word) == 1
 
 
 def are_numbers(words):
     """Whether all are numbers as texts have them."""
-    return all([is_plain_number(word) and len(word) <= MOST_FIGURES for word in words])
+    return all([is_written_number(word) for word in words])
 
 
 class Block:
@@ -74,7 +74,7 @@ def take_row(words, things, blocks):
     """Take a row that reads and writes."""
     if len(words) < 2 or not are_numbers(words[2:]):
         return False
-    if words[1] != "-" and not are_numbers([words[1]]):
+    if words[1] != "-" and not is_written_number(words[1]):
         return False
     write = None if words[1] == "-" else int(words[1])
     add_to_last(blocks, ("row", tuple([int(word) for word in words[2:]]), write))

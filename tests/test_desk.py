@@ -20,6 +20,8 @@ GREAT = 10 ** 10 - 1
 BLANK = ""
 # Rows: 0 writes A, 1 writes B, 2 reads A, 3 reads B.
 CROSSED = (((4, 4), (8, 8)), (WRITE_A, WRITE_B, READ_A, ("row", (1,), None)))
+# Three of the greatest things, all alive at once, so that one lies at a place of eleven figures.
+SOLID = (((GREAT, 1), (GREAT, GREAT), (GREAT, 3)), (WRITE_A, WRITE_B, ("row", (), 2), ("row", (0, 1, 2), None)))
 
 
 def desk_text(program, asks):
@@ -138,16 +140,19 @@ class AnswersTest(DeskCase):
         self.asks(EMPTY, ("way", "-"), ("way 1 0", "-"))
         self.asks(HOLLOW, ("way", "-"), ("way 0 1 1 0 0 0", "0"))
 
-    def test_told_again_whatever_its_size(self):
-        """Told places of more figures than a program's text has are taken, too."""
-        things = ((GREAT, 1), (GREAT, GREAT), (GREAT, 3))
-        writes = tuple(("row", (), t) for t in range(3))
-        program = (things, writes + (("row", (0, 1, 2), None),))
+    def test_places_of_ten_figures(self):
+        self.asks(SOLID, ("check 9999999999 9999999999 9999999999", "wrong"), ("check 0 9999999999 9999999999", "wrong"),
+                  ("check 1000000000 0 9999999999", "wrong"))
+        self.asks((((1, 1), (5 * 10 ** 9, 1)), SOLID[1][:2] + (("row", (0, 1), None),)),
+                  ("check 9999999999 0", "right"), ("check 9999999999 5000000000", "wrong"),
+                  ("check 9999999999 4999999999", "right"))
+
+    def test_answers_of_more_figures(self):
         for word in WORDS:
-            places, = run_desk(desk_text(program, [f"place {word}"]))
-            self.assertGreater(max(len(place) for place in places.split(" ")), 10)
-            self.asks(program, (f"check {places}", "right"))
-        self.asks(program, (f"check 0 {GREAT} {2 * GREAT}", "right"), (f"check 0 {GREAT} {2 * GREAT - 3}", "wrong"))
+            places, top = run_desk(desk_text(SOLID, [f"place {word}", f"height {word}"]))
+            self.assertEqual(places, joined(placed_by(SOLID, word)))
+            self.assertEqual(max(len(place) for place in places.split(" ")), 11)
+            self.assertEqual(top, str(height(SOLID[0], placed_by(SOLID, word))))
 
     def test_ninety_choices(self):
         self.asks(LOOPED, ("way " + " ".join(["1"] * 90), joined([0] + [1, 2, 3] * 90 + [4])))
@@ -292,8 +297,24 @@ class RefusedDeskTest(DeskCase):
         self.bad(2, "thing 1 1\n\ncheck 0 0")
         self.assertEqual(run_desk("thing 1 1\n\ncheck 7"), ["right"])
 
+    def test_places_of_check_of_more_than_ten_figures(self):
+        # Each border divides these places, so that nothing but their figures is at fault.
+        for place in ("10000000000", "80000000000", "88888888888", "100000000000", "8" + "0" * 80):
+            self.bad_ask(f"check {place} 8")
+            self.bad_ask(f"check 0 {place}")
+            self.bad_ask(f"check {place} {place}")
+        self.bad_ask("check 0 00000000008")
+        self.assertEqual(run_desk(desk_text(CROSSED, ["check 9999999996 9999999992"])), ["wrong"])
+        self.bad(4, "thing 33100066 4\nthing 28810978 1\n\nbound\ncheck 4 10000000000\nheight early")
+
+    def test_told_places_of_more_than_ten_figures(self):
+        for word in WORDS:
+            places = placed_by(SOLID, word)
+            self.bad(8, desk_text(SOLID, [f"check {joined(places)}"]))
+            self.assertIsNone(wrong_run(SOLID, places))
+
     def test_choices_of_way(self):
-        for choices in ("2", "0 2", "2 0", "00", "01", "-1", "a", "0 1 -", "+1", "10", "0,1"):
+        for choices in ("2", "0 2", "2 0", "00", "01", "-1", "a", "0 1 -", "+1", "10", "0,1", "00000000001"):
             self.bad_ask(f"way {choices}")
 
     def test_the_first_ask_at_fault(self):

@@ -270,8 +270,11 @@ class GreatTest(unittest.TestCase):
     def test_great_places_are_handed_in_again(self):
         program = great_program(3)
         for word in WORDS:
-            told, = run_desk(desk_text(program, [f"place {word}"]))
-            self.assertEqual(run_desk(desk_text(program, [f"check {told}"])), ["right"])
+            places = placed_by(program, word)
+            self.assertGreater(max(places), GREAT)
+            self.assertIsNone(wrong_run(program, places))
+            self.assertEqual(marked(program, places, [1, 0, 1])[0], "right")
+            self.assertIs(is_placing(program[0], clashes(program), places), True)
 
     def test_houses(self):
         house = tuple(great_program(seed + 1, seed, 60) for seed in range(6))
